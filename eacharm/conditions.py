@@ -91,18 +91,6 @@ def implies(condition, other):
     return implies(_side(condition, switch, False), _side(other, switch, False))
 
 
-def meet(condition, other):
-    """Tells whether both conditions hold at some setting."""
-    if condition is False or other is False:
-        return False
-    if condition is True or other is True:
-        return True
-    switch = min(condition[0], other[0])
-    if meet(_side(condition, switch, True), _side(other, switch, True)):
-        return True
-    return meet(_side(condition, switch, False), _side(other, switch, False))
-
-
 def switches_of(condition):
     """The switches that the condition contains, ascending."""
     found = {}

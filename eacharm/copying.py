@@ -1,111 +1,85 @@
 """Copies of terms in which some letters are made new."""
 
 from eacharm.bindings import joined_pieces, joined_row
-from eacharm.conditions import both, but_not, implies, no
 from eacharm.terms import ROWED, term_parts, with_parts
 
 
-def fresh_letters(bindings, gens):
-    """A new letter for each key of `gens`; where its condition fails it is the old one."""
-    fresh = {}
-    for letter in gens:
-        condition = gens[letter]
-        if letter in bindings.lacked:
-            made = bindings.new_row()
-            bindings.lead_lacks(condition, letter, made)
-            old = ("row", (), letter)
-        else:
-            made = bindings.new_letter()
-            old = ("letter", letter)
-        if bindings.lives(no(condition)):
-            bindings.bind(no(condition), made, old)
-        fresh[letter] = made
-    return fresh
-
-
 class Copier:
-    """Makes one copy of a term, part by part."""
+    """Makes one copy of a term; `fresh` has the new letter of each general one."""
 
-    def __init__(self, bindings, gens, fresh):
+    def __init__(self, bindings, general):
         self.bindings = bindings
-        self.gens = gens
-        self.fresh = fresh
+        self.general = general
+        self.fresh = {letter: self._new_letter(letter) for letter in general}
         self.made = {}
 
-    def copied(self, condition, term):
-        """The copy of a term under a condition that holds at a living setting."""
+    def copied(self, mask, term):
+        """The copy of a term at the settings of a mask that is not empty."""
         if term[0] == "letter":
-            return self._letter_copy(condition, term[1])
+            return self._own_copy(mask, term, term[1])
         parts = []
         for part in term_parts(term):
-            parts.append(self.copied(condition, part))
+            parts.append(self.copied(mask, part))
         copy = with_parts(term, parts)
         if copy[0] in ROWED and copy[2] is not None:
-            return joined_row(copy, self._tail_copy(condition, copy[2]))
+            return joined_row(copy, self._own_copy(mask, ("row", (), copy[2]), copy[2]))
         return copy
 
-    def _letter_copy(self, condition, letter):
-        known = self._known_copy(condition, letter)
+    def _new_letter(self, letter):
+        """A new letter; where the old one is not general, it is bound to it."""
+        bindings = self.bindings
+        mask = self.general[letter]
+        elsewhere = bindings.living & ~mask
+        if letter in bindings.lacked:
+            new, old = bindings.new_row(), ("row", (), letter)
+            bindings.lead_lacks(mask, letter, new)
+        else:
+            new, old = bindings.new_letter(), ("letter", letter)
+        if elsewhere:
+            bindings.bind(elsewhere, new, old)
+        return new
+
+    def _own_copy(self, mask, own, letter):
+        """The copy of a letter, or of the row that a tail stands for."""
+        known = self._known_copy(mask, letter)
         if known is not None:
             return known
-        heads = self.bindings.pieces(condition, letter)
+        bindings = self.bindings
+        heads = bindings.row_pieces(mask, own) if own[0] == "row" else bindings.pieces(mask, letter)
         pieces = []
         for part, head in heads:
             if head[0] == "letter":
-                for place, new in self._renewed(part, head[1]):
-                    pieces.append((place, ("letter", new)))
+                copy = ("letter", self._renewed(part, head[1]))
+            elif head[0] == "row":
+                fields = self.copied(part, ("row", head[1], None))[1]
+                copy = ("row", fields, self._renewed(part, head[2]))
             else:
-                pieces.append((part, self.copied(part, head)))
-        if pieces == heads:
-            return self._keep(condition, letter, ("letter", letter))
-        pieces = joined_pieces(pieces)
-        if len(pieces) == 1:
-            return self._keep(condition, letter, pieces[0][1])
-        new = self.bindings.new_letter()
-        return self._bind_all(condition, letter, pieces, ("letter", new), new)
+                copy = self.copied(part, head)
+            pieces.append((part, copy))
+        copy = own if pieces == heads else self._joined_copy(own, joined_pieces(pieces))
+        self.made.setdefault(letter, []).append((mask, copy))
+        return copy
 
-    def _tail_copy(self, condition, tail):
-        """The row that comes in the place of a tail."""
-        known = self._known_copy(condition, tail)
-        if known is not None:
-            return known
-        own = ("row", (), tail)
-        heads = self.bindings.row_pieces(condition, own)
-        pieces = []
-        for part, row in heads:
-            fields = self.copied(part, ("row", row[1], None))[1]
-            for place, new in self._renewed(part, row[2]):
-                pieces.append((place, ("row", fields, new)))
-        if pieces == heads:
-            return self._keep(condition, tail, own)
-        pieces = joined_pieces(pieces)
-        if len(pieces) == 1:
-            return self._keep(condition, tail, pieces[0][1])
-        new = self.bindings.new_row()
-        return self._bind_all(condition, tail, pieces, ("row", (), new), new)
-
-    def _renewed(self, condition, letter):
-        """The letters in the place of an unbound one, each with its condition."""
-        general = self.gens.get(letter, False)
-        old = but_not(condition, general)
-        if not self.bindings.lives(both(condition, general)):
-            return [(condition, letter)]
-        if not self.bindings.lives(old):
-            return [(condition, self.fresh[letter])]
-        return [(both(condition, general), self.fresh[letter]), (old, letter)]
-
-    def _known_copy(self, condition, letter):
+    def _known_copy(self, mask, letter):
         for place, copy in self.made.get(letter, ()):
-            if implies(condition, place):
+            if not mask & ~place:
                 return copy
         return None
 
-    def _keep(self, condition, letter, copy):
-        self.made.setdefault(letter, []).append((condition, copy))
-        return copy
+    def _renewed(self, mask, letter):
+        """The letter in the place of an unbound one or of no tail.
 
-    def _bind_all(self, condition, letter, pieces, copy, new):
-        """Keeps as the copy of a letter a new one that is bound to each piece."""
+        Where the old one is not general, the new one is bound to it, so the new
+        one is right at the whole mask if it is so at some settings of it.
+        """
+        return self.fresh[letter] if mask & self.general.get(letter, 0) else letter
+
+    def _joined_copy(self, own, pieces):
+        """The one copy, or a new letter that is bound to each of several."""
+        if len(pieces) == 1:
+            return pieces[0][1]
+        is_row = own[0] == "row"
+        new = self.bindings.new_row() if is_row else self.bindings.new_letter()
         for part, target in pieces:
             self.bindings.bind(part, new, target)
-        return self._keep(condition, letter, copy)
+        return ("row", (), new) if is_row else ("letter", new)

@@ -1,48 +1,48 @@
 """Resolved terms and their schemes, at one setting and at many at once."""
 
-from eacharm.conditions import both, but_not, either
 from eacharm.tables import ordered_table
 from eacharm.terms import (
     ROWED, row_letters_in, scheme_of, scheme_text, term_parts, term_text, with_parts,
 )
 
 
-def resolved(bindings, setting, term):
+def resolved(bindings, bit, term):
     """The term or row with all bindings of a setting put in."""
     if term[0] == "letter":
-        term = bindings.head_at(setting, term[1])
+        term = bindings.head_at(bit, term[1])
     if term[0] in ROWED:
-        term = bindings.row_at(setting, term)
+        term = bindings.row_at(bit, term)
     parts = []
     for part in term_parts(term):
-        parts.append(resolved(bindings, setting, part))
+        parts.append(resolved(bindings, bit, part))
     return with_parts(term, parts)
 
 
-def resolved_scheme(bindings, setting, term):
+def resolved_scheme(bindings, bit, term):
     """The scheme of a term at a setting."""
-    done = resolved(bindings, setting, term)
-    lacks = {tail: bindings.lacks_at(setting, tail) for tail in row_letters_in(done)}
+    done = resolved(bindings, bit, term)
+    lacks = {tail: bindings.lacks_at(bit, tail) for tail in row_letters_in(done)}
     return scheme_of(done, lacks)
 
 
-def resolved_schemes(bindings, condition, term):
-    """The table of the schemes of a term under a condition."""
+def resolved_schemes(bindings, mask, term):
+    """The table of the schemes of a term at the settings of a mask."""
     pieces = []
-    for part, done in _variants(bindings, condition, term):
+    for part, done in _variants(bindings, mask, term):
         for place, lacks in _lack_ways(bindings, part, done):
             pieces.append((place, scheme_of(done, lacks)))
-    return ordered_table(_merged(pieces, scheme_text))
+    joined = _merged(pieces, scheme_text)
+    return ordered_table([(bindings.masks.condition_of(part), scheme) for part, scheme in joined])
 
 
-def _variants(bindings, condition, term):
-    """Resolved terms, each with the part of the condition at which it is the one."""
+def _variants(bindings, mask, term):
+    """Resolved terms, each with the part of the mask at which it is the one."""
     if term[0] == "letter":
-        heads = bindings.pieces(condition, term[1])
+        heads = bindings.pieces(mask, term[1])
     elif term[0] in ROWED:
-        heads = bindings.row_pieces(condition, term)
+        heads = bindings.row_pieces(mask, term)
     else:
-        return _part_variants(bindings, condition, term)
+        return _part_variants(bindings, mask, term)
     found = []
     for part, head in heads:
         if term[0] == "letter" and head[0] in ROWED:
@@ -52,9 +52,9 @@ def _variants(bindings, condition, term):
     return _merged(found, term_text) if len(heads) > 1 else found
 
 
-def _part_variants(bindings, condition, term):
+def _part_variants(bindings, mask, term):
     """As `_variants`, where the term itself is no bound letter and has no bound tail."""
-    ways = [(condition, ())]
+    ways = [(mask, ())]
     for part in term_parts(term):
         longer = []
         for place, done in ways:
@@ -64,9 +64,9 @@ def _part_variants(bindings, condition, term):
     return [(place, with_parts(term, done)) for place, done in ways]
 
 
-def _lack_ways(bindings, condition, term):
-    """What the row letters of a resolved term lack, under parts of the condition."""
-    ways = [(condition, {})]
+def _lack_ways(bindings, mask, term):
+    """What the row letters of a resolved term lack, under parts of the mask."""
+    ways = [(mask, {})]
     for tail in row_letters_in(term):
         longer = []
         for place, lacks in ways:
@@ -76,23 +76,23 @@ def _lack_ways(bindings, condition, term):
     return ways
 
 
-def _label_ways(condition, lacked):
-    ways = [(condition, ())]
+def _label_ways(mask, lacked):
+    ways = [(mask, ())]
     for label in sorted(lacked):
         longer = []
         for place, labels in ways:
-            longer.append((both(place, lacked[label]), (*labels, label)))
-            longer.append((but_not(place, lacked[label]), labels))
-        ways = [way for way in longer if way[0] is not False]
+            longer.append((place & lacked[label], (*labels, label)))
+            longer.append((place & ~lacked[label], labels))
+        ways = [way for way in longer if way[0]]
     return ways
 
 
 def _merged(pieces, text_of):
     """The pieces with those of equal values made one; texts find them fast."""
     places = {}
-    values = {}
-    for condition, value in pieces:
+    found = {}
+    for mask, value in pieces:
         text = text_of(value)
-        places[text] = either(places.get(text, False), condition)
-        values.setdefault(text, value)
-    return [(places[text], values[text]) for text in places]
+        places[text] = places.get(text, 0) | mask
+        found.setdefault(text, value)
+    return [(places[text], found[text]) for text in places]

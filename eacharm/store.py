@@ -1,8 +1,7 @@
 """The store: equations between terms, each under a condition."""
 
 from eacharm.bindings import Bindings
-from eacharm.conditions import both, holds
-from eacharm.copying import Copier, fresh_letters
+from eacharm.copying import Copier
 from eacharm.equations import Equations
 from eacharm.resolving import resolved, resolved_scheme, resolved_schemes
 
@@ -20,50 +19,64 @@ class Store:
 
     def new_row(self, condition=True, labels=()):
         """A row letter that is new and lacks the labels under the condition."""
-        return self._bindings.new_row(condition, labels)
+        letter = self._bindings.new_row()
+        mask = self._bindings.mask_for(condition)
+        for label in labels:
+            self._bindings.add_lack(mask, letter, label)
+        return letter
 
     def unify(self, condition, left, right):
         """Demands under the condition that two terms or two rows are equal."""
-        Equations(self._bindings).solve(condition, left, right)
-        self.living = self._bindings.living
+        mask = self._bindings.mask_for(condition)
+        Equations(self._bindings).solve(mask, left, right)
+        self._note_living()
 
     def lack(self, condition, letter, labels):
         """Demands under the condition that the row letter lacks the labels."""
-        Equations(self._bindings).lack(condition, letter, labels)
-        self.living = self._bindings.living
+        mask = self._bindings.mask_for(condition)
+        if mask:
+            Equations(self._bindings).lack(mask, letter, labels)
+            self._note_living()
 
     def reach(self, condition, term):
         """Under which living settings each letter stands in the resolved term."""
-        return self._bindings.reach(condition, term)
+        mask = self._bindings.mask_for(condition)
+        found = self._bindings.reach(mask, term)
+        return {letter: self._bindings.masks.condition_of(found[letter]) for letter in found}
 
     def resolved_at(self, setting, term):
         """The resolved term at a setting, or None if the setting is not living."""
-        if not holds(self.living, setting):
-            return None
-        return resolved(self._bindings, setting, term)
+        bit = self._living_bit(setting)
+        return resolved(self._bindings, bit, term) if bit else None
 
     def lacks_at(self, setting, letter):
         """The labels that an unbound row letter lacks, None where nothing lives."""
-        if not holds(self.living, setting):
-            return None
-        return self._bindings.lacks_at(setting, letter)
+        bit = self._living_bit(setting)
+        return self._bindings.lacks_at(bit, letter) if bit else None
 
     def scheme_at(self, setting, term):
         """The scheme of the resolved term at a setting, or None."""
-        if not holds(self.living, setting):
-            return None
-        return resolved_scheme(self._bindings, setting, term)
+        bit = self._living_bit(setting)
+        return resolved_scheme(self._bindings, bit, term) if bit else None
 
     def scheme_table(self, condition, term):
         """The table of the schemes at the living settings of the condition."""
-        condition = both(condition, self.living)
-        if condition is False:
-            return ()
-        return resolved_schemes(self._bindings, condition, term)
+        mask = self._bindings.mask_for(condition)
+        return resolved_schemes(self._bindings, mask, term) if mask else ()
 
     def copied(self, condition, term, gens):
         """The pair of a copy of the term and the new letter of each key of `gens`."""
-        fresh = fresh_letters(self._bindings, gens)
-        if not self._bindings.lives(condition):
-            return term, fresh
-        return Copier(self._bindings, gens, fresh).copied(condition, term), fresh
+        bindings = self._bindings
+        for place in (condition, *list(gens.values())):
+            bindings.admit(place)
+        # All switches are known by now, so no mask has to be doubled any more.
+        mask = bindings.mask_for(condition)
+        copier = Copier(bindings, {letter: bindings.mask_for(gens[letter]) for letter in gens})
+        copy = copier.copied(mask, term) if mask else term
+        return copy, copier.fresh
+
+    def _living_bit(self, setting):
+        return self._bindings.masks.bit_of(setting) & self._bindings.living
+
+    def _note_living(self):
+        self.living = self._bindings.masks.condition_of(self._bindings.living)

@@ -7,7 +7,7 @@ them ends. What happens at settings that are not living is never looked at.
 """
 
 from eacharm.masks import Masks, doubled
-from eacharm.terms import letters_in
+from eacharm.terms import ROWED, letters_in
 
 
 class Bindings:
@@ -79,6 +79,17 @@ class Bindings:
         parts, rest = split_pieces(mask, self._settled(row[2]))
         found = [(part, joined_row(row, more)) for part, more in parts]
         return [*found, (rest, row)] if rest else found
+
+    def heads(self, mask, term):
+        """What a term comes to: no bound letters, and no rows with bound tails."""
+        found = self.pieces(mask, term[1]) if term[0] == "letter" else [(mask, term)]
+        heads = []
+        for part, head in found:
+            if head[0] in ROWED:
+                heads.extend(self.row_pieces(part, head))
+            else:
+                heads.append((part, head))
+        return heads
 
     def reach(self, mask, term):
         """The mask under which each unbound letter stands in the resolved term."""

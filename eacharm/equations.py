@@ -18,8 +18,8 @@ class Equations:
             part, first, second = self.work.pop()
             part = self._not_done(part & self.bindings.living, first, second)
             if part and first != second:
-                for place, head in self._heads(part, first):
-                    for inner, other in self._heads(place, second):
+                for place, head in self.bindings.heads(part, first):
+                    for inner, other in self.bindings.heads(place, second):
                         self._match(inner, head, other)
 
     def lack(self, mask, tail, labels):
@@ -39,19 +39,6 @@ class Equations:
         known = self.done.get(pair, 0)
         self.done[pair] = known | mask
         return mask & ~known
-
-    def _heads(self, mask, term):
-        """What a term comes to: no bound letter, and no row with a bound tail."""
-        found = [(mask, term)]
-        if term[0] == "letter":
-            found = self.bindings.pieces(mask, term[1])
-        heads = []
-        for part, head in found:
-            if head[0] in ROWED:
-                heads.extend(self.bindings.row_pieces(part, head))
-            else:
-                heads.append((part, head))
-        return heads
 
     def _match(self, mask, left, right):
         """Takes the demand apart where no letter of either side is bound."""

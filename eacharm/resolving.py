@@ -37,31 +37,23 @@ def resolved_schemes(bindings, mask, term):
 
 def _variants(bindings, mask, term):
     """Resolved terms, each with the part of the mask at which it is the one."""
-    if term[0] == "letter":
-        heads = bindings.pieces(mask, term[1])
-    elif term[0] in ROWED:
-        heads = bindings.row_pieces(mask, term)
-    else:
-        return _part_variants(bindings, mask, term)
+    heads = bindings.heads(mask, term)
     found = []
     for part, head in heads:
-        if term[0] == "letter" and head[0] in ROWED:
-            found.extend(_variants(bindings, part, head))
-        else:
-            found.extend(_part_variants(bindings, part, head))
+        found.extend(_head_variants(bindings, part, head))
     return _merged(found, term_text) if len(heads) > 1 else found
 
 
-def _part_variants(bindings, mask, term):
-    """As `_variants`, where the term itself is no bound letter and has no bound tail."""
+def _head_variants(bindings, mask, head):
+    """As `_variants`, of what a term comes to."""
     ways = [(mask, ())]
-    for part in term_parts(term):
+    for part in term_parts(head):
         longer = []
         for place, done in ways:
             for inner, variant in _variants(bindings, place, part):
                 longer.append((inner, (*done, variant)))
         ways = longer
-    return [(place, with_parts(term, done)) for place, done in ways]
+    return [(place, with_parts(head, done)) for place, done in ways]
 
 
 def _lack_ways(bindings, mask, term):

@@ -2,6 +2,7 @@
 
 RESERVED = ("true", "false", "hole", "int", "bool", "else")
 SMALL = "abcdefghijklmnopqrstuvwxyz"
+CAPITALS = "ABCDEFGHIJKLMNOPQRSTUVWXYZ"
 FIGURES = "0123456789"
 
 

@@ -64,7 +64,7 @@ class Names:
 
 def name_expression(names, node, mask, scope):
     """Walks through an expression."""
-    action = RULES.get(node[0], _inside)
+    action = RULES[node[0]] if node[0] in RULES else _inside
     action(names, node, mask, scope)
 
 

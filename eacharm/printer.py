@@ -39,12 +39,13 @@ def _inner_texts(node):
     if word == "data":
         return [node[2], _text(node[3]), *_texts(node[4])]
     if word == "module":
-        return [node[2], node_text(node[3]), *([] if node[4] is None else [node[4]])]
+        texts = [node[2], node_text(node[3])]
+        return texts if node[4] is None else [*texts, node[4]]
     if word == "functor":
         return [node[2], _bracket([node[3], node[4]]), _text(node[5]), _text(node[6])]
     if word == "case":
-        rest = [] if node[4] is None else [_bracket(["else", node[4][0], node_text(node[4][1])])]
-        return [node_text(node[2]), *_texts(node[3]), *rest]
+        texts = [node_text(node[2]), *_texts(node[3])]
+        return texts if node[4] is None else [*texts, _bracket(["else", *_texts(node[4])])]
     return _texts(node[2:])
 
 

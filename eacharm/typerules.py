@@ -29,7 +29,8 @@ def function_types(typer, node, condition, held, group):
     """Types the functions of a rec or defrec, which are held in all right sides."""
     for name, _ in group:
         typer.slots[(node[1], name)] = typer.letter()
-    inner = (*held, *[typer.slots[(node[1], name)] for name, _ in group])
+    own = [typer.slots[(node[1], name)] for name, _ in group]
+    inner = (*held, *own)
     for name, side in group:
         term = expression_type(typer, side, condition, inner)
         typer.store.unify(condition, typer.slots[(node[1], name)], term)

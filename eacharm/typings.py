@@ -16,14 +16,15 @@ class Typing:
         self.told = {number: _resolved(typer, typer.told[number]) for number in typer.told}
         self.uses = {number: _use_pairs(typer, number) for number in typer.used}
         self.generals = {key: tuple(sorted(typer.defined[key][1])) for key in typer.defined}
-        self.lacks = _lacks(typer, [*list(self.told.values()), *_use_terms(self.uses)])
+        self.lacks = _lacks(typer, list(self.told.values()) + _use_terms(self.uses))
 
 
 def typing_at(told, setting, kept=None):
     """The typing of a check at a setting with some marks kept; raises NotTyped."""
     on = tuple([switch for switch in told.switches if switch in setting])
     marks = tuple([mark for mark in told.marks if kept is None or mark in kept])
-    if not holds(told.typable, [*on, *[f"m{mark}" for mark in marks]]):
+    kept_switches = [f"m{mark}" for mark in marks]
+    if not holds(told.typable, [*on, *kept_switches]):
         raise NotTyped(on, marks)
     tree = kept_only(chosen(told.program, on), marks)
     typer, _ = typed_program(tree, names_of(tree), True)

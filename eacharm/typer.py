@@ -5,18 +5,36 @@ chosen, with the marks around it kept. What a name means comes from `names`; at
 settings where names are at fault nothing lives, and nothing is promised.
 """
 
-from eacharm.conditions import both, but_not
+from eacharm.conditions import both, but_not, either
 from eacharm.store import Store
+
+
+class Definition:
+    """The type of a definition, the conditions of its general letters, and its copies."""
+
+    def __init__(self, condition, term, general):
+        self.condition = condition
+        self.term = term
+        self.general = general
+        self.copies = []
+
+
+class Copy:
+    """A copy of a definition's type: where it is used, and its new letters."""
+
+    def __init__(self, used, term, fresh):
+        self.used = used
+        self.term = term
+        self.fresh = fresh
 
 
 class Typer:
     """What the walk knows so far.
 
     `slots` has the type of each held name, `defined` for each (number, name) of
-    a let, rec, def or defrec the pair (type, conditions of its general
-    letters), `aliases` the term of each alias. `told` has the types of
-    expressions and patterns, `used` for each use of a value what stands for
-    each general letter.
+    a let, rec, def or defrec its Definition, `aliases` the term of each alias.
+    `told` has the types of expressions and patterns, `used` for each use of a
+    value the new letter of each general one.
     """
 
     def __init__(self, names, living):
@@ -40,7 +58,7 @@ class Typer:
 
     def joined(self, ways):
         """The one term of several that stand under conditions."""
-        if len(ways) == 1:
+        if ways and all([term == ways[0][1] for _, term in ways]):
             return ways[0][1]
         whole = self.letter()
         for condition, term in ways:
@@ -76,11 +94,21 @@ class Typer:
             kept = self.store.reach(condition, ("tuple", held))
             general = {k: but_not(general[k], kept.get(k, False)) for k in general}
             general = {k: general[k] for k in general if general[k] is not False}
-        self.defined[(number, name)] = (term, general)
+        self.defined[(number, name)] = Definition(condition, term, general)
 
     def instance(self, condition, number, name):
-        """The type of a use of a definition, and the new letter of each general one."""
-        term, general = self.defined[(number, name)]
-        if not general:
-            return term, {}
-        return self.store.copied(condition, term, general)
+        """The type of a use of a definition, and the new letter of each general one.
+
+        Of uses that stand together at no setting one copy is enough. So a copy
+        is made for all settings of the definition.
+        """
+        definition = self.defined[(number, name)]
+        if not definition.general:
+            return definition.term, {}
+        for copy in definition.copies:
+            if both(copy.used, condition) is False:
+                copy.used = either(copy.used, condition)
+                return copy.term, copy.fresh
+        found = self.store.copied(definition.condition, definition.term, definition.general)
+        definition.copies.append(Copy(condition, *found))
+        return found

@@ -22,12 +22,17 @@ def shown_ways(typer, module):
         for space, name in entries:
             pieces, _ = view.pieces(space, name, mask)
             for part, target in typer.narrowed(True, pieces):
-                if space == "value":
-                    term, _ = told_value(typer, view, target, part)
-                else:
-                    term = hidden_term(typer, view, name, part)
+                term = _shown_term(typer, view, target, part)
                 found.setdefault((space, name), []).append((part, term))
     return found
+
+
+def _shown_term(typer, view, target, condition):
+    if target.word == "defined":
+        return typer.defined[(target.number, target.name)].term
+    if target.word == "val":
+        return told_value(typer, view, target, condition)[0]
+    return hidden_term(typer, view, target.name, condition)
 
 
 def _declarations(typer, rows, condition):

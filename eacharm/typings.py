@@ -15,7 +15,7 @@ class Typing:
         self.tree = tree
         self.told = {number: _resolved(typer, typer.told[number]) for number in typer.told}
         self.uses = {number: _use_pairs(typer, number) for number in typer.used}
-        self.generals = {key: tuple(sorted(typer.defined[key][1])) for key in typer.defined}
+        self.generals = {key: tuple(sorted(typer.defined[key].general)) for key in typer.defined}
         self.lacks = _lacks(typer, list(self.told.values()) + _use_terms(self.uses))
 
 
@@ -41,7 +41,7 @@ def _use_pairs(typer, number):
     _, target, _ = typer.names.uses[number][0]
     tails = ()
     if target.word == "defined":
-        tails = row_letters_in(_resolved(typer, typer.defined[(target.number, target.name)][0]))
+        tails = row_letters_in(_resolved(typer, typer.defined[(target.number, target.name)].term))
     pairs = []
     for letter in sorted(fresh):
         new = fresh[letter]

@@ -280,6 +280,40 @@ class Missing(Tables):
         self.assertEqual(names_table(p), ((A_OFF, (7, "unknown")), (A_ON, (5, "missing"))))
 
 
+    def test_applied_under_conditions(self):
+        p = read_program("""(program (sig s (val x () int)) (sig u (hide t))
+            (when A ((functor f (p s) () ())) ((functor f (q u) () ())))
+            (when B ((module n (struct (def x 1)))) ((module n (struct (alias t int)))))
+            (when C ((module m (apply f n))) ()) (main 0))""")
+        (number,) = [n[1] for n in all_nodes(p) if n[0] == "apply"]
+        there = ("A", ("B", False, ("C", True, False)), ("B", ("C", True, False), False))
+        self.assertEqual(names_table(p), ((there, (number, "missing")),))
+        p = read_program("""(program (when C ((sig s (val x () int))) ((sig s (hide t)))) (functor f (p s) () ())
+            (module n (struct (def x 1))) (module m (apply f n)) (main 0))""")
+        (number,) = [n[1] for n in all_nodes(p) if n[0] == "apply"]
+        self.assertEqual(names_table(p), ((("C", False, True), (number, "missing")),))
+
+    def test_what_an_apply_shows_where_something_is_unknown(self):
+        p = read_program("""(program (sig s) (when A ((functor f (p s) ((def y 1)) ((val y () int)))) ())
+            (when B ((module n (struct))) ()) (module m (apply f n)) (main (tuple (member m y) (member m z))))""")
+        # With the numbers turned round, faults of main come before those of the apply.
+        count = len(all_nodes(p))
+        turned = renumbered_by(p, lambda number: count - number if number else 0)
+        (apply,) = [n[1] for n in all_nodes(turned) if n[0] == "apply"]
+        (member,) = [n[1] for n in all_nodes(turned) if n[0] == "member" and n[3] == "z"]
+        self.assertLess(member, apply)
+        self.assertEqual(names_table(turned), ((A_OFF, (apply, "unknown")), (A_ON, (member, "unknown"))))
+
+
+def renumbered_by(thing, change):
+    """The tree with other numbers."""
+    if not isinstance(thing, tuple):
+        return thing
+    if len(thing) > 1 and isinstance(thing[0], str) and type(thing[1]) is int:
+        return (thing[0], change(thing[1]), *[renumbered_by(part, change) for part in thing[2:]])
+    return tuple(renumbered_by(part, change) for part in thing)
+
+
 class Endless(Tables):
     def test_data(self):
         for rows in ["(c (of d))", "(c (tuple int (of d))) (e (record (l (of d))))", "(c (cell (of d)))",

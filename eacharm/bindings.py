@@ -48,6 +48,14 @@ class Bindings:
         self.lacked[letter] = {}
         return letter
 
+    def letter_like(self, letter):
+        """A new letter or row letter, as the letter is."""
+        return self.new_row() if letter in self.lacked else self.new_letter()
+
+    def own_term(self, letter):
+        """What an alias of a letter or row letter is bound to."""
+        return ("row", (), letter) if letter in self.lacked else ("letter", letter)
+
     def fail(self, mask):
         """Takes settings out of the living ones."""
         self.living &= ~mask
@@ -67,16 +75,20 @@ class Bindings:
             if mask & place:
                 self.add_lack(mask & place, other, label)
 
+    def bound_pieces(self, mask, letter):
+        """What a letter is bound to: pairs of a mask and a term, and the mask where unbound."""
+        return split_pieces(mask, self._settled(letter))
+
     def pieces(self, mask, letter):
         """What a letter comes to: pairs of a mask and a term, itself where unbound."""
-        parts, rest = split_pieces(mask, self._settled(letter))
+        parts, rest = self.bound_pieces(mask, letter)
         return [*parts, (rest, ("letter", letter))] if rest else parts
 
     def row_pieces(self, mask, row):
         """What a row comes to: rows whose tails are unbound, in the place of aliases."""
         if row[2] is None or not self.bound[row[2]]:
             return [(mask, row)]
-        parts, rest = split_pieces(mask, self._settled(row[2]))
+        parts, rest = self.bound_pieces(mask, row[2])
         found = [(part, joined_row(row, more)) for part, more in parts]
         return [*found, (rest, row)] if rest else found
 
@@ -94,6 +106,15 @@ class Bindings:
     def reach(self, mask, term):
         """The mask under which each unbound letter stands in the resolved term."""
         found = {}
+        seen = self.standing(mask, term)
+        for letter in seen:
+            _, rest = self.bound_pieces(seen[letter], letter)
+            if rest:
+                found[letter] = rest
+        return found
+
+    def standing(self, mask, term):
+        """The mask under which each letter, bound or not, is come to from a term."""
         seen = {}
         level = {letter: mask for letter in letters_in(term)}
         while level:
@@ -101,14 +122,12 @@ class Bindings:
             for letter in level:
                 fresh = level[letter] & ~seen.get(letter, 0)
                 seen[letter] = seen.get(letter, 0) | fresh
-                parts, rest = split_pieces(fresh, self.bound[letter])
-                if rest:
-                    found[letter] = found.get(letter, 0) | rest
+                parts, _ = self.bound_pieces(fresh, letter)
                 for part, target in parts:
                     for inner in letters_in(target):
                         below[inner] = below.get(inner, 0) | part
             level = below
-        return found
+        return seen
 
     def head_at(self, bit, letter):
         """What a letter comes to at one setting, in the place of aliases."""

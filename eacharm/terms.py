@@ -22,7 +22,7 @@ def scheme_of(term, lacks=None):
     numbers = {letter: at for at, letter in enumerate(letters_in(term))}
     known = all_lacks(term, lacks)
     pairs = [(numbers[letter], known[letter]) for letter in known]
-    return _relettered(term, numbers), tuple(sorted(pairs))
+    return relettered(term, numbers), tuple(sorted(pairs))
 
 
 def is_instance(term, scheme, lacks=None):
@@ -110,6 +110,19 @@ def with_parts(term, parts):
     return term
 
 
+def relettered(term, numbers):
+    """The term or row with other letters in the place of those that are keys."""
+    if term[0] == "letter":
+        return ("letter", numbers.get(term[1], term[1]))
+    parts = []
+    for part in term_parts(term):
+        parts.append(relettered(part, numbers))
+    done = with_parts(term, parts)
+    if done[0] in ROWED and done[2] is not None:
+        return (done[0], done[1], numbers.get(done[2], done[2]))
+    return done
+
+
 def all_lacks(term, lacks=None):
     """The labels that each row letter of a term lacks, those beside it included."""
     found = {letter: {} for letter in row_letters_in(term)}
@@ -140,18 +153,6 @@ def _sights(term):
                 work.append(("tail", part[2]))
             work.extend(term_parts(part)[::-1])
     return sights
-
-
-def _relettered(term, numbers):
-    if term[0] == "letter":
-        return ("letter", numbers[term[1]])
-    parts = []
-    for part in term_parts(term):
-        parts.append(_relettered(part, numbers))
-    done = with_parts(term, parts)
-    if done[0] in ROWED and done[2] is not None:
-        return (done[0], done[1], numbers[done[2]])
-    return done
 
 
 def _fits(general, term, asked, known):

@@ -6,21 +6,27 @@ from eacharm.terms import (
 )
 
 
-def resolved(bindings, bit, term):
-    """The term or row with all bindings of a setting put in."""
+def resolved(bindings, bit, term, known):
+    """The term or row with all bindings of a setting put in.
+
+    `known` keeps what letters come to at this setting, from call to call.
+    """
     if term[0] == "letter":
-        term = bindings.head_at(bit, term[1])
+        if term[1] not in known:
+            head = bindings.head_at(bit, term[1])
+            known[term[1]] = head if head[0] == "letter" else resolved(bindings, bit, head, known)
+        return known[term[1]]
     if term[0] in ROWED:
         term = bindings.row_at(bit, term)
     parts = []
     for part in term_parts(term):
-        parts.append(resolved(bindings, bit, part))
+        parts.append(resolved(bindings, bit, part, known))
     return with_parts(term, parts)
 
 
 def resolved_scheme(bindings, bit, term):
     """The scheme of a term at a setting."""
-    done = resolved(bindings, bit, term)
+    done = resolved(bindings, bit, term, {})
     lacks = {tail: bindings.lacks_at(bit, tail) for tail in row_letters_in(done)}
     return scheme_of(done, lacks)
 

@@ -46,8 +46,17 @@ class Store:
 
     def resolved_at(self, setting, term):
         """The resolved term at a setting, or None if the setting is not living."""
+        return self.all_resolved_at(setting, [term])[0]
+
+    def all_resolved_at(self, setting, terms):
+        """The resolved terms at a setting, or None for each; what they share is made once."""
         bit = self._living_bit(setting)
-        return resolved(self._bindings, bit, term) if bit else None
+        known = {}
+        return [resolved(self._bindings, bit, term, known) if bit else None for term in terms]
+
+    def is_row(self, letter):
+        """Tells whether a letter is a row letter."""
+        return letter in self._bindings.lacked
 
     def lacks_at(self, setting, letter):
         """The labels that an unbound row letter lacks, None where nothing lives."""

@@ -4,7 +4,6 @@ from eacharm.choosing import chosen, kept_only
 from eacharm.conditions import holds
 from eacharm.declaring import names_of
 from eacharm.errors import NotTyped
-from eacharm.terms import row_letters_in
 from eacharm.typewalk import typed_program
 
 
@@ -12,11 +11,19 @@ class Typing:
     """What a typing tells; made by `typing_at` alone."""
 
     def __init__(self, tree, typer):
+        numbers = list(typer.told)
+        uses = [(number, letter) for number in typer.used for letter in sorted(typer.used[number])]
+        terms = [typer.told[number] for number in numbers]
+        terms.extend([_new_term(typer, number, letter) for number, letter in uses])
+        resolved = typer.store.all_resolved_at((), terms)
+        pairs = {number: [] for number in typer.used}
+        for (number, letter), term in zip(uses, resolved[len(numbers):]):
+            pairs[number].append((letter, term))
         self.tree = tree
-        self.told = {number: _resolved(typer, typer.told[number]) for number in typer.told}
-        self.uses = {number: _use_pairs(typer, number) for number in typer.used}
+        self.told = {number: term for number, term in zip(numbers, resolved)}
+        self.uses = {number: tuple(pairs[number]) for number in pairs}
         self.generals = {key: tuple(sorted(typer.defined[key].general)) for key in typer.defined}
-        self.lacks = _lacks(typer, list(self.told.values()) + _use_terms(self.uses))
+        self.lacks = _lacks(typer.store, terms)
 
 
 def typing_at(told, setting, kept=None):
@@ -31,30 +38,13 @@ def typing_at(told, setting, kept=None):
     return Typing(tree, typer)
 
 
-def _resolved(typer, term):
-    return typer.store.resolved_at((), term)
+def _new_term(typer, number, letter):
+    """What stands for a general letter at a use: its new letter, or a row that ends with it."""
+    new = typer.used[number][letter]
+    return ("row", (), new) if typer.store.is_row(new) else ("letter", new)
 
 
-def _use_pairs(typer, number):
-    """The pairs (general letter, what stands for it) of a use."""
-    fresh = typer.used[number]
-    _, target, _ = typer.names.uses[number][0]
-    tails = ()
-    if target.word == "defined":
-        tails = row_letters_in(_resolved(typer, typer.defined[(target.number, target.name)].term))
-    pairs = []
-    for letter in sorted(fresh):
-        new = fresh[letter]
-        own = ("row", (), new) if letter in tails else ("letter", new)
-        pairs.append((letter, _resolved(typer, own)))
-    return tuple(pairs)
-
-
-def _use_terms(uses):
-    return [term for number in uses for _, term in uses[number]]
-
-
-def _lacks(typer, terms):
+def _lacks(store, terms):
     """What the row letters of terms and rows lack."""
-    tails = {tail: True for term in terms for tail in row_letters_in(term)}
-    return {tail: typer.store.lacks_at((), tail) for tail in tails}
+    letters = store.reach(True, ("tuple", tuple(terms)))
+    return {letter: store.lacks_at((), letter) for letter in letters if store.is_row(letter)}

@@ -418,6 +418,34 @@ class Whole(unittest.TestCase):
             good = states == sorted(states, reverse=True)
             self.assertEqual(value_at(c.stages, setting), "fits" if good else "types")
 
+    def test_definitions_that_are_used_again_and_again(self):
+        start = time.time()
+        rows = "(def x0 (fn y y))" + "".join(
+            f"(def x{k} (choose {'ABCDEFGH'[k % 8]} (tuple x{k - 1} 1) (tuple x{k - 1} 2)))" for k in range(1, 30))
+        c = check(read_program(f"(program {rows} (main x29))"))
+        self.assertEqual((len(c.schemes), c.stages), (1, ((True, "fits"),)))
+        text = "(get l x8)"
+        for k in range(8, 0, -1):
+            more = f"(tuple x{k - 1} x{k - 1}) (record (l x{k - 1}) (m x{k - 1}))"
+            text = f"(let x{k} (choose {'ABCDEFGH'[k % 8]} {more}) {text})"
+        c = check(read_program(f"(program (main (let x0 (fn z z) {text})))"))
+        self.assertEqual((len(c.schemes), c.typable), (128, A_OFF))
+        self.assertLess(time.time() - start, 10)
+
+    def test_deep_trees_and_types(self):
+        # Trees with edits laid in have at most 60 levels, terms at most 100.
+        node = ("name", 1, "x")
+        for k in range(2, 58):
+            node = ("fn", k, "x", node) if k % 2 else ("choose", k, f"e{k % 6 + 1}", node, ("hole", k + 100))
+        c = check(("program", 0, (), ("fn", 900, "x", node)))
+        self.assertEqual(c.stages, ((True, "fits"),))
+        rows = [("def", 1, "x0", ("fn", 2, "y", ("name", 3, "y")))]
+        for k in range(1, 97):
+            rows.append(("def", 4 * k, f"x{k}", ("tuple", 4 * k + 1, (("name", 4 * k + 2, f"x{k - 1}"), ("number", 4 * k + 3, 1)))))
+        c = check(("program", 0, tuple(rows), ("name", 1000, "x96")))
+        self.assertEqual(c.stages, ((True, "fits"),))
+        self.assertEqual(scheme_text(c.schemes[0][1]).count("tuple"), 96)
+
     def test_no_argument_is_changed(self):
         before = copy.deepcopy(PLACES)
         first, second = check(PLACES), check(PLACES)

@@ -108,6 +108,13 @@ class Modules(unittest.TestCase):
         self.assertEqual(members(text), {"x": ((A_OFF, "int"),)})
         self.assertEqual(members("(program (module m (struct (def x 1) (def y z))) (main 0))"), {})
 
+    def test_members_that_stand_twice(self):
+        text = "(program (module m (struct (when A ((def x 1) (alias t int)) ()) (def x true) (alias t bool))) (main 0))"
+        self.assertEqual(members(text), {"x": ((A_OFF, "bool"),)})
+        self.assertEqual(hides(text), {"t": ((A_OFF, "bool"),)})
+        text = "(program (when A ((module m (struct (def x 1)))) ()) (module m (struct (def x true) (def y 1))) (main 0))"
+        self.assertEqual(members(text), {"x": ((A_OFF, "bool"),), "y": ((A_OFF, "int"),)})
+
     def test_every_mark_is_kept(self):
         text = "(program (module m (struct (def x (mark 1 1)) (def y (choose A (mark 2 true) 1)))) (main 0))"
         self.assertEqual(members(text), {"x": ((True, "int"),), "y": ((A_OFF, "int"), (A_ON, "bool"))})

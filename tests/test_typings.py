@@ -3,6 +3,7 @@
 import copy
 import os
 import random
+import time
 import unittest
 
 from eacharm.checking import check
@@ -186,6 +187,18 @@ class Random(unittest.TestCase):
                 if kept == c.marks:
                     self.assertEqual(scheme, value_at(c.schemes, setting))
         return typings
+
+
+class Large(unittest.TestCase):
+    def test_large_types_end_soon(self):
+        start = time.time()
+        text = "x12"
+        for k in range(12, 0, -1):
+            text = f"(let x{k} (tuple x{k - 1} x{k - 1}) {text})"
+        t = typed(f"(program (main (let x0 (fn z z) {text})))")
+        self.assertEqual(len(t.generals[(4, "x1")]), 2)
+        self.assertEqual(len(set(map(len, t.generals.values()))), 13)
+        self.assertLess(time.time() - start, 10)
 
 
 class New(unittest.TestCase):

@@ -3,7 +3,7 @@
 import random
 import unittest
 
-from eacharm.choosing import chosen
+from eacharm.choosing import chosen, kept_only, marks_in, node_conditions, partly, switches_in
 from eacharm.errors import BadText
 from eacharm.printer import node_text, program_text
 from eacharm.reader import read_declaration, read_expression, read_program
@@ -93,6 +93,22 @@ class Texts(unittest.TestCase):
                     self.assertEqual(read_program(program_text(one)), renumbered(one))
                 except BadText as error:
                     self.assertIn(error.what, ("form", "deep", "long", "nodes", "many"))
+
+    def test_programs_of_part_3(self):
+        # Choosing, deciding some switches and dropping marks: the text is read as the same tree.
+        for seed in range(80):
+            tree = Programs(random.Random(seed), ("A", "B"), (1, 2, 3)).program(many=3, depth=4)
+            trees = [tree, partly(tree, [("A", True)]), partly(tree, (("B", False),)), kept_only(tree, [2]), kept_only(tree, ()),
+                     kept_only(chosen(tree, ["A"]), [1, 3]), chosen(kept_only(tree, [1]), ("B",))]
+            for one in trees:
+                try:
+                    read = read_program(program_text(one))
+                except BadText as error:
+                    self.assertIn(error.what, ("form", "deep", "long", "nodes", "many"))
+                    continue
+                self.assertEqual(read, renumbered(one))
+                self.assertEqual((switches_in(read), marks_in(read)), (switches_in(one), marks_in(one)))
+                self.assertEqual(sorted(node_conditions(read)), list(range(len(all_nodes(one)))))
 
     def test_declarations_of_both_kinds(self):
         for text in ("(alias t (to int t))", "(when A ((alias t int)) ((data d () (c int))))", "(when A () ())",

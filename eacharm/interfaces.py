@@ -20,7 +20,7 @@ def _shown_tables(told, module, space):
     """The tables of the schemes of a module's names of one space that have a value."""
     ways = told.modules.get(module, {})
     found = []
-    for name in sorted([name for part, name in ways if part == space]):
+    for name in sorted([own for part, own in ways if part == space]):
         pieces = []
         for condition, term in ways[(space, name)]:
             pieces.extend(told.scheme_table(condition, term))

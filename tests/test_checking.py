@@ -14,6 +14,7 @@ from eacharm.shapes import cases_table
 from eacharm.tables import value_at
 from eacharm.terms import scheme_text
 from eacharm.trees import all_nodes
+from bareterms import BareTerms
 from plaintypes import main_scheme
 from programs import Programs
 from samples import PLACES, Trees
@@ -375,6 +376,11 @@ class Random(unittest.TestCase):
             makes = Programs(chance, switches, chance.choice([(), (1, 2), (5, 2, 3)]), chance.choice([0, 0.01, 0.03]),
                              chance.choice([0.1, 0.2]), seed % 3 == 0)
             self.compare(makes.program(chance.randint(0, 6), chance.randint(2, 5)), switches)
+
+    def test_bare_terms(self):
+        for seed in range(600):
+            switches = ((), ("A",), ("A", "B"))[seed % 3]
+            self.compare(BareTerms(random.Random(seed), switches, (1, 2)[:seed % 4]).program(), switches)
 
     def test_programs_without_sense(self):
         for seed in range(100):

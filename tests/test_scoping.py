@@ -11,6 +11,7 @@ from eacharm.reader import read_program
 from eacharm.scoping import binders, names_table
 from eacharm.tables import value_at
 from eacharm.trees import all_nodes
+from bareterms import BareData, BareTerms
 from plainnames import names_fault, plain_binders
 from programs import Programs
 from samples import PLACES, Trees
@@ -498,6 +499,19 @@ class Random(unittest.TestCase):
         for seed in range(150):
             tree = Trees(random.Random(seed)).program(many=seed % 6, depth=4)
             self.compare(tree, ("A", "B", "C"))
+
+    def test_data(self):
+        for seed in range(400):
+            chance = random.Random(seed)
+            tree = BareData(chance, ("A", "B")).program()
+            if seed % 2:
+                numbers = chance.sample(range(1, 1000), 999)
+                tree = renumbered_by(tree, lambda number: numbers[number] if number else 0)
+            self.compare(tree, ("A", "B"))
+
+    def test_bare_terms(self):
+        for seed in range(300):
+            self.compare(BareTerms(random.Random(seed), ("A", "B"), (1, 2)).program(), ("A", "B"))
 
     def test_no_argument_is_changed(self):
         before = copy.deepcopy(PLACES)

@@ -14,6 +14,7 @@ from eacharm.reader import read_program
 from eacharm.tables import value_at
 from eacharm.terms import scheme_of
 from eacharm.typings import Typing, typing_at
+from bareterms import BareTerms
 from plaintypes import main_scheme
 from programs import Programs
 from settings import every_setting
@@ -167,6 +168,13 @@ class Random(unittest.TestCase):
                             chance.choice([0.1, 0.2]), seed % 2).program(chance.randint(0, 6), chance.randint(2, 5))
             typings += self.compare(tree, check(tree))
         self.assertGreater(typings, MANY)
+
+    def test_bare_terms(self):
+        typings = 0
+        for seed in range(3 * MANY):
+            tree = BareTerms(random.Random(seed), ((), ("A",), ("A", "B"))[seed % 3], (1, 2)[:seed % 4]).program()
+            typings += self.compare(tree, check(tree))
+        self.assertGreater(typings, MANY // 3)
 
     def compare(self, tree, c):
         typings = 0

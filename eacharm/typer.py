@@ -109,6 +109,6 @@ class Typer:
             if both(copy.used, condition) is False:
                 copy.used = either(copy.used, condition)
                 return copy.term, copy.fresh
-        found = self.store.copied(definition.condition, definition.term, definition.general)
-        definition.copies.append(Copy(condition, *found))
-        return found
+        term, fresh = self.store.copied(definition.condition, definition.term, definition.general)
+        definition.copies.append(Copy(condition, term, fresh))
+        return term, fresh

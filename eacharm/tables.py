@@ -1,6 +1,6 @@
 """Tables: values at settings, as pieces (condition, value) in one form."""
 
-from eacharm.conditions import both, but_not, either, first_setting, fixed, holds
+from eacharm.conditions import both, but_not, either, first_setting, fixed, holds, no
 
 
 def table_of(rows):
@@ -47,6 +47,16 @@ def paired(left, right):
         for part, other in right:
             pieces.append((both(condition, part), (value, other)))
     return ordered_table(pieces)
+
+
+def agreement(left, right):
+    """The condition that two tables have equal values, or that neither has one."""
+    same = no(either(covered(left), covered(right)))
+    for condition, value in left:
+        at = _place_of(right, value)
+        if at is not None:
+            same = either(same, both(condition, right[at][0]))
+    return same
 
 
 def joined_table(pieces):

@@ -192,11 +192,30 @@ class Constructs(unittest.TestCase):
 
     def test_functions(self):
         for where, node in everywhere(ast.FunctionDef):
-            self.assertEqual((node.decorator_list, node.returns), ([], None), where)
-            if node.name.startswith("__"):
+            self.assertIsNone(node.returns, where)
+            if node.decorator_list:
+                self.property_of_a_class(node, where)
+            if node.name == "__iter__":
+                self.assertRegex(ast.unparse(node.body[-1]), r"^return iter\(self\.\w+\)$", where)
+                self.assertEqual(len(node.body), 1, where)
+            elif node.name.startswith("__"):
                 self.assertEqual(node.name, "__init__", where)
             for value in [*node.args.defaults, *[d for d in node.args.kw_defaults if d]]:
                 self.plain_default(value, where)
+
+    def property_of_a_class(self, node, where):
+        """A property has one parameter, changes nothing, and no method or attribute has its name."""
+        self.assertEqual([ast.unparse(d) for d in node.decorator_list], ["property"], where)
+        self.assertIsInstance(node.above, ast.ClassDef, where)
+        self.assertEqual(ast.unparse(node.args), "self", where)
+        self.assertEqual([n.name for _, n in everywhere(ast.FunctionDef)].count(node.name), 1, where)
+        self.assertEqual([w for w, n in everywhere(ast.Attribute) if n.attr == node.name and isinstance(n.ctx, ast.Store)], [], where)
+        for inner in ast.walk(node):
+            self.assertNotIsInstance(inner, (ast.AugAssign, ast.Delete, ast.Yield), where)
+            if isinstance(inner, ast.Call):
+                self.assertIsInstance(inner.func, ast.Name, where)
+            if isinstance(inner, (ast.Attribute, ast.Subscript)):
+                self.assertIsInstance(inner.ctx, ast.Load, where)
 
     def plain_default(self, value, where):
         for inner in ast.walk(value):
@@ -241,6 +260,7 @@ class Constructs(unittest.TestCase):
                 above = node.above
                 loop = isinstance(above, (ast.For, ast.comprehension)) and above.iter is node
                 call = called_name(above) in AT_ONCE and above.args[0] is node
+                call = call or (called_name(above) == "reversed" and called_name(node) == "range")
                 self.assertTrue(loop or call, where)
 
     def test_generators(self):
@@ -276,7 +296,7 @@ class Names(unittest.TestCase):
         for where, node in everywhere(ast.Name, ast.arg, ast.Attribute, ast.FunctionDef):
             name = getattr(node, "id", None) or getattr(node, "arg", None) or getattr(
                 node, "attr", None) or node.name
-            if name != "__init__":
+            if name not in ("__init__", "__iter__"):
                 self.assertRegex(name, r"^_?[A-Za-z][A-Za-z0-9_]*$|^_$", where)
                 self.assertNotRegex(
                     name, r"^_(wall|pe_|dcw_|enum_|cm_|twin_re_|lay_|law_|stub_|sre|WallAttr)", where)
@@ -301,13 +321,19 @@ class Names(unittest.TestCase):
         for name, tree in TREES.items():
             for node in ast.walk(tree):
                 if isinstance(node, ast.Name) and hasattr(builtins, node.id):
-                    self.assertIn(node.id, BUILTINS, f"{name}:{node.lineno}")
+                    above = getattr(node.above, "above", None)
+                    if isinstance(node.above, ast.FunctionDef) and node in node.above.decorator_list:
+                        self.assertEqual(node.id, "property")
+                    elif node.id == "iter":
+                        self.assertEqual(above.above.name, "__iter__", f"{name}:{node.lineno}")
+                    else:
+                        self.assertIn(node.id, BUILTINS, f"{name}:{node.lineno}")
 
     def test_methods(self):
         for where, node in everywhere(ast.Call):
             if isinstance(node.func, ast.Attribute):
                 self.assertIn(node.func.attr, METHODS | OWN_METHODS | {"__init__"}, where)
-        self.assertEqual((OWN_METHODS - METHODS - {"__init__"}) & BUILTIN_METHODS, set())
+        self.assertEqual((OWN_METHODS - METHODS - {"__init__", "__iter__"}) & BUILTIN_METHODS, set())
 
     def test_attributes(self):
         assigned = {n.attr for _, n in everywhere(ast.Attribute) if isinstance(n.ctx, ast.Store)}

@@ -2,7 +2,7 @@
 
 from eacharm.conditions import both, but_not, holds, no, switch_condition
 from eacharm.errors import NoPlace
-from eacharm.trees import all_nodes, is_node, node_sorts, numbered_from, placed_nodes
+from eacharm.trees import all_nodes, is_node, node_at, node_sorts, numbered_from, placed_nodes
 
 CHOICES = ("choose", "when")
 EDITED = ("expression", "declaration")
@@ -68,10 +68,8 @@ def same_choice(program, setting):
 
 def put_at(program, number, switch, new):
     """The program with an edit laid over the node with the number."""
+    sort = edited_sort(program, number)
     nodes = {node[1]: node for node in all_nodes(program)}
-    sort = node_sorts(program).get(number)
-    if sort not in EDITED or _is_edit(nodes[number]):
-        raise NoPlace(number)
     over = {_under(node): node[1] for node in list(nodes.values()) if _is_edit(node)}
     while number in over:
         number = over[number]
@@ -81,6 +79,14 @@ def put_at(program, number, switch, new):
     if sort == "expression":
         return _replaced(program, number, ("choose", free, switch, fresh, old))
     return _replaced(program, number, ("when", free, switch, fresh, (old,)))
+
+
+def edited_sort(program, number):
+    """The sort of a node that an edit can be laid over; raises NoPlace for any other number."""
+    sort = node_sorts(program).get(number)
+    if sort not in EDITED or _is_edit(node_at(program, number)):
+        raise NoPlace(number)
+    return sort
 
 
 def _decided(thing, states):

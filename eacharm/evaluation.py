@@ -10,11 +10,6 @@ parameter, its expression and its names.
 from eacharm.choosing import chosen, switches_in
 from eacharm.shapes import bindings_of
 
-# Where the parts begin in an expression whose parts are evaluated one after another.
-FIRST_PART = {
-    "app": 2, "op": 3, "get": 3, "extend": 3, "update": 3, "without": 3, "tag": 3, "make": 3,
-    "cell": 3, "read": 2, "write": 2,
-}
 NUMBERS = ("number", "number")
 NOTHING = ("record", ())
 
@@ -74,14 +69,24 @@ def _fn(machine, node, names):
     machine.worths.append(("fn", node[2], node[3], names))
 
 
-def _parts(machine, node, names):
-    """Asks for the parts from left to right, and then for what they come to."""
-    if node[0] == "tuple":
-        parts = node[2]
-    elif node[0] == "record":
-        parts = [part for _, part in node[2]]
-    else:
-        parts = node[FIRST_PART[node[0]]:]
+def _one(machine, node, names):
+    """Asks for the one part, which stands last, and then for what it comes to."""
+    part = node[-1]
+    machine.tasks.append((THEN[node[0]], node, names))
+    machine.tasks.append((RULES[part[0]], part, names))
+
+
+def _two(machine, node, names):
+    """Asks for the two parts, which stand last, and then for what they come to."""
+    first, second = node[-2:]
+    machine.tasks.append((THEN[node[0]], node, names))
+    machine.tasks.append((RULES[second[0]], second, names))
+    machine.tasks.append((RULES[first[0]], first, names))
+
+
+def _many(machine, node, names):
+    """Asks for the parts of a tuple or record from left to right."""
+    parts = node[2] if node[0] == "tuple" else [part for _, part in node[2]]
     machine.tasks.append((THEN[node[0]], node, names))
     for part in parts[::-1]:
         machine.tasks.append((RULES[part[0]], part, names))
@@ -105,7 +110,7 @@ def _choose(machine, node, names):
     if side is None:
         machine.tasks.append((_choose, node, names))
     else:
-        machine.tasks.append(expression_task(side, names))
+        machine.tasks.append((RULES[side[0]], side, names))
 
 
 def _rec(machine, node, names):
@@ -317,19 +322,19 @@ RULES = {
     "truth": _plain,
     "hole": _hole,
     "fn": _fn,
-    "app": _parts,
-    "op": _parts,
-    "tuple": _parts,
-    "record": _parts,
-    "get": _parts,
-    "extend": _parts,
-    "update": _parts,
-    "without": _parts,
-    "tag": _parts,
-    "make": _parts,
-    "cell": _parts,
-    "read": _parts,
-    "write": _parts,
+    "app": _two,
+    "op": _two,
+    "tuple": _many,
+    "record": _many,
+    "get": _one,
+    "extend": _two,
+    "update": _two,
+    "without": _one,
+    "tag": _one,
+    "make": _one,
+    "cell": _one,
+    "read": _one,
+    "write": _two,
     "let": _first,
     "if": _first,
     "case": _first,

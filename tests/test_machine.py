@@ -125,11 +125,17 @@ class Values(unittest.TestCase):
     def test_large_numbers(self):
         text = "(program (defrec (f (fn n (fn k (if (< n 1) k (app (app f (- n 1)) (+ k k))))))) (main (app (app f 900) 1)))"
         self.assertEqual(outcome(text, 2000), ("value", number(2 ** 900), 1802))
-        doubled = "(let y (+ x x) (let x (+ y y) (let y (+ x x) (let x (+ y y) (let y (+ x x) (let x (+ y y) (let y (+ x x) (let x (+ y y) (app (app f (- n 1)) x)))))))))"
-        text = f"(program (defrec (f (fn n (fn x (if (< n 1) x {doubled}))))) (main (app (app f 999) 1)))"
-        self.assertTrue(run(program(text), 2000) == ("value", number(2 ** (8 * 999)), 2000))
-        text = text.replace("(main (app (app f 999) 1))", "(main (let x (app (app f 999) 1) (tuple (< x 1) (= x x) (- x x))))")
-        self.assertEqual(run(program(text), 2000)[1], ("tuple", (NO, YES, number(0))))
+        # More figures than Python prints: sixteen doublings in each call.
+        doubled = "(app (app f (- n 1)) x)"
+        for _ in range(8):
+            doubled = f"(let y (+ x x) (let x (+ y y) {doubled}))"
+        text = f"(program (defrec (f (fn n (fn x (if (< n 1) x {doubled}))))) (main {{}}))"
+        told = run(program(text.format("(app (app f 999) 1)")), 2000)
+        self.assertTrue(told == ("value", number(2 ** (16 * 999)), 2000))
+        with self.assertRaises(ValueError):
+            str(told)
+        told = run(program(text.format("(let x (app (app f 999) 1) (tuple (< x 1) (= x x) (- x x) (match x (1 2) (_ 3))))")), 2000)
+        self.assertEqual(told[1], ("tuple", (NO, YES, number(0), number(3))))
 
 
 class Order(unittest.TestCase):

@@ -3,6 +3,8 @@
 The names of the program must be in order. Nothing of the package is used.
 """
 
+from settings import deep_recursion
+
 SPACES = ("values", "makers", "types", "sigs", "modules", "functors")
 ROWED = ("record", "variant")
 FALSE = ("false",)
@@ -48,8 +50,9 @@ class Unfolded:
         self.claims = {}
         self.places = []
         env = {space: {} for space in SPACES}
-        self.struct(tree[2], env)
-        self.expression(tree[3], (), env)
+        with deep_recursion():
+            self.struct(tree[2], env)
+            self.expression(tree[3], (), env)
 
     def give(self, number, chain, *claims):
         self.claims.setdefault((number, chain), []).extend(claims)

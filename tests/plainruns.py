@@ -1,8 +1,6 @@
 """Part 13 for programs without choices, written plainly with Python's own recursion."""
 
-import sys
-
-sys.setrecursionlimit(100000)
+from settings import deep_recursion
 
 
 class Ended(Exception):
@@ -11,10 +9,11 @@ class Ended(Exception):
 
 def plain_run(program, fuel=400):
     runner = PlainRun(fuel)
-    try:
-        return runner.whole(program)
-    except Ended as end:
-        return end.args[0]
+    with deep_recursion():
+        try:
+            return runner.whole(program)
+        except Ended as end:
+            return end.args[0]
 
 
 class Cell:

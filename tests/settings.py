@@ -1,6 +1,19 @@
 """Small helpers of the tests: settings, conditions and tables the slow way."""
 
+import contextlib
 import itertools
+import sys
+
+
+@contextlib.contextmanager
+def deep_recursion():
+    """Lets the tests' own readings go deep; the package has to do without."""
+    before = sys.getrecursionlimit()
+    sys.setrecursionlimit(100000)
+    try:
+        yield
+    finally:
+        sys.setrecursionlimit(before)
 
 
 def every_setting(switches):

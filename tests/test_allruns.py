@@ -16,7 +16,7 @@ from bareterms import BareTerms
 from plainruns import plain_run
 from programs import Programs
 from samples import PLACES, Trees
-from settings import condition_from, every_setting, holds_slowly, random_condition, setting_rank, table_faults
+from settings import every_setting, holds_slowly, random_condition, setting_rank, table_faults
 
 MANY = int(os.environ.get("PROGRAMS", 300))
 A_ON, A_OFF = ("A", True, False), ("A", False, True)

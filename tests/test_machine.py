@@ -296,6 +296,21 @@ class Fuel(unittest.TestCase):
         self.assertLess(time.time() - start, 5)
 
 
+    def test_deep_trees(self):
+        node = ("name", 1, "x")
+        for k in range(58):
+            number_here = 10 * k + 10
+            node = [("op", number_here, "+", node, ("number", number_here + 1, 1)), ("let", number_here, "x", ("number", number_here + 1, k), node),
+                    ("choose", number_here, "ABC"[k % 2], node, ("hole", number_here + 1)), ("get", number_here, "l", ("record", number_here + 1, (("l", node),)))][k % 4]
+        p = ("program", 0, (), node)
+        m = Machine(p)
+        m.settle("A", True)
+        m.settle("B", True)
+        m.advance()
+        self.assertEqual(m.outcome, plain_run(chosen(p, "AB")))
+        self.assertEqual(m.outcome[0], "value")
+
+
 class Declarations(unittest.TestCase):
     """13.1 and 13.7."""
 

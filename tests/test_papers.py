@@ -3,7 +3,6 @@
 import copy
 import os
 import random
-import sys
 import time
 import unittest
 
@@ -14,16 +13,14 @@ from eacharm.errors import ArmError, NotRefused, TooLarge
 from eacharm.papers import paper_at, unfolded_size
 from eacharm.reader import read_program
 from eacharm.scoping import names_table
-from eacharm.trees import all_nodes, node_sorts
+from eacharm.trees import all_nodes
 from eacharm.unfolding import claims_of
 from bareterms import BareTerms
-from paperjudge import FALSE, Judge, Unfolded, inside, unfolded_places
+from paperjudge import FALSE, Judge, Unfolded, unfolded_places
 from programs import Programs
 from settings import every_setting
 
 MANY = int(os.environ.get("PROGRAMS", 300))
-sys.setrecursionlimit(20000)
-
 DATA = "(data list (a) (nil int) (cons (tuple a (of list a)))) (data two (a b) (two (tuple a (tuple b a))))"
 SIG = "(sig s (hide t) (val x () t) (val f (a b) (to a (to b (tuple a t)))))"
 BODY = "(alias t int) (def x 1) (def f (fn u (fn v (tuple u x))))"
@@ -533,6 +530,27 @@ class Large(unittest.TestCase):
             text = f"(app {text} two)"
         sizes.append(self.judged_soon(f"(program (def two (fn f (fn x (app f (app f x))))) (main (app (app (app {text} (fn x (+ x 1))) true) 1)))"))
         self.assertGreater(max(sizes), 1700)
+
+    def test_long_chains_and_deep_trees(self):
+        rows = [("def", 1, "x0", ("truth", 2, True))]
+        rows += [("def", 2 * k + 1, f"x{k}", ("name", 2 * k + 2, f"x{k - 1}")) for k in range(1, 59)]
+        p = ("program", 0, tuple(rows), ("op", 500, "+", ("name", 501, "x58"), ("number", 502, 1)))
+        self.assertEqual(unfolded_size(p, (), ()), 59 * 60 // 2 + 3 + 59)
+        rows = paper_at(p, (), ())
+        Judge(p, rows)
+        self.assertEqual(max(len(parts[1]) for rule, parts, _ in rows if rule == "given"), 59)
+        node = ("op", 1, "+", ("number", 2, 1), ("truth", 3, True))
+        for k in range(57):
+            number = 3 * k + 4
+            node = [("fn", number, "x", node), ("let", number, "x", ("hole", number + 1), node),
+                    ("match", number, ("hole", number + 2), (("arm", 1000 + k, ("any", number + 1), node),))][k % 3]
+        p = ("program", 0, (), node)
+        Judge(p, paper_at(p, (), ()))
+        term = ("int", 900)
+        for k in range(28):
+            term = ("tuple", 901 + 2 * k, (term, ("bool", 902 + 2 * k)))
+        p = ("program", 0, (), ("app", 1, ("is", 2, ("hole", 3), term), ("number", 4, 1)))
+        self.assertEqual(paper_at(p, (), ())[-1][0], "heads")
 
 
 if __name__ == "__main__":

@@ -119,7 +119,7 @@ class Bindings:
         level = {letter: mask for letter in letters_in(term)}
         while level:
             below = {}
-            for letter in level:
+            for letter in list(level):
                 fresh = level[letter] & ~seen.get(letter, 0)
                 seen[letter] = seen.get(letter, 0) | fresh
                 parts, _ = self.bound_pieces(fresh, letter)

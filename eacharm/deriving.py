@@ -187,7 +187,7 @@ class Deriving:
         if (tail, label) in self.lacked:
             self.clash = ("lacked", step)
             return
-        for row in self.tails[tail]:
+        for row in list(self.tails[tail]):
             group = self.classes[self.root(row)]
             if label in group.labels:
                 number, fact = group.labels[label]

@@ -55,7 +55,7 @@ def _head_variants(bindings, mask, head):
     ways = [(mask, ())]
     for part in term_parts(head):
         longer = []
-        for place, done in ways:
+        for place, done in list(ways):
             for inner, variant in _variants(bindings, place, part):
                 longer.append((inner, (*done, variant)))
         ways = longer
@@ -67,7 +67,7 @@ def _lack_ways(bindings, mask, term):
     ways = [(mask, {})]
     for tail in row_letters_in(term):
         longer = []
-        for place, lacks in ways:
+        for place, lacks in list(ways):
             for inner, labels in _label_ways(place, bindings.lacked[tail]):
                 longer.append((inner, {**lacks, tail: labels}))
         ways = longer

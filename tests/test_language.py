@@ -11,6 +11,8 @@ import unittest
 import warnings
 from pathlib import Path
 
+from loops import changed_while_walked
+
 PACKAGE = Path(__file__).resolve().parent.parent / "eacharm"
 BUILTINS = set("""len range enumerate zip min max sum abs sorted reversed int str bool bytes list
 tuple dict set frozenset isinstance ord repr any all divmod Exception ValueError TypeError KeyError
@@ -277,18 +279,8 @@ class Constructs(unittest.TestCase):
                 self.assertTrue(loop or called_name(further) in AT_ONCE, where)
 
     def test_loops_do_not_change_what_they_go_over(self):
-        changes = {"append", "extend", "pop", "insert", "remove", "clear", "update", "setdefault",
-                   "reverse", "sort"}
-        for where, node in everywhere(ast.For):
-            over = {ast.unparse(n) for n in ast.walk(node.iter) if isinstance(n, (ast.Name, ast.Attribute))}
-            if called_name(node.iter) in ("list", "sorted", "range"):
-                continue
-            for inner in [i for part in node.body for i in ast.walk(part)]:
-                if isinstance(inner, ast.Call) and isinstance(inner.func, ast.Attribute):
-                    if inner.func.attr in changes:
-                        self.assertNotIn(ast.unparse(inner.func.value), over, where)
-                if isinstance(inner, ast.Subscript) and not isinstance(inner.ctx, ast.Load):
-                    self.assertNotIn(ast.unparse(inner.value), over, where)
+        told = {name: changed_while_walked(tree) for name, tree in TREES.items()}
+        self.assertEqual({name: rows for name, rows in told.items() if rows}, {})
 
 
 class Names(unittest.TestCase):
